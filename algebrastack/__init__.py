@@ -1,0 +1,1 @@
+"""Algebrastack: a small computer algebra."""
