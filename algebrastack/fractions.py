@@ -4,6 +4,7 @@ from algebrastack.errors import NumberError, PolyError
 from algebrastack.polys import (
     Field,
     degree_of,
+    poly,
     poly_bezout,
     poly_common,
     poly_divided,
@@ -16,10 +17,12 @@ from algebrastack.polys import (
     slope_of,
     square_free_parts,
     trimmed,
+    whole_form,
 )
 from algebrastack.rationals import ONE, ZERO, quotient_of, rational
 
 MINUS_ONE = (-1, 1)
+SHOWING_PRIME = 2147483647
 
 
 class Quotient:
@@ -31,7 +34,7 @@ class Quotient:
         field = Field()
         self.above = above
         self.below = below
-        if degree_of(below) > 0:
+        if degree_of(below) > 0 and not surely_apart(above, below):
             common = poly_common(field, above, below)
             self.above = poly_divided(field, above, common)[0]
             self.below = poly_divided(field, below, common)[0]
@@ -52,7 +55,7 @@ class Quotient:
 
     def negated(self):
         """Return the quotient below 0."""
-        return Quotient(scaled(Field(), self.above, MINUS_ONE), self.below)
+        return in_lowest(scaled(Field(), self.above, MINUS_ONE), self.below)
 
     def multiplied(self, other):
         """Return a product."""
@@ -68,7 +71,7 @@ class Quotient:
         if exponent < 0:
             return self.turned().raised_to(0 - exponent)
         field = Field()
-        return Quotient(poly_power(field, self.above, exponent), poly_power(field, self.below, exponent))
+        return in_lowest(poly_power(field, self.above, exponent), poly_power(field, self.below, exponent))
 
     def slope(self):
         """Return the derivative."""
@@ -81,6 +84,21 @@ class Quotient:
         """Return the value at a fraction; raise NumberError where the polynomial below is 0."""
         field = Field()
         return quotient_of(poly_value(field, self.above, point), poly_value(field, self.below, point))
+
+
+def surely_apart(one, other):
+    """Return True if a prime shows that polynomials have no common divisor, which is soon seen."""
+    field = Field(SHOWING_PRIME)
+    left, right = [poly(field, whole_form(part)[1]) for part in (one, other)]
+    # Where the leading number stays, a common divisor keeps its degree by the prime.
+    return len(left) == len(one) and degree_of(poly_common(field, left, right)) == 0
+
+
+def in_lowest(above, below):
+    """Return the quotient of polynomials that are in lowest terms as they are."""
+    found = Quotient(above)
+    found.below = below
+    return found
 
 
 def parted(one):

@@ -3,6 +3,7 @@
 VALUES = {
     "rationals": {"ZERO": (0, 1), "ONE": (1, 1)},
     "terms": {"ORDERS": ("lex", "grlex", "grevlex")},
+    "expressions": {"SIGNS": {"+": "sum", "-": "difference", "*": "product", "/": "quotient"}},
 }
 
 FUNCTIONS = {
@@ -161,6 +162,50 @@ FUNCTIONS = {
         "is_reduced": "(rows)",
         "relation": "(numbers, scale)",
     },
+    "galois": {
+        "cannot_part": "(prime, one)",
+        "first_irreducible": "(prime, many)",
+    },
+    "groups": {
+        "is_permutation": "(one)",
+        "after": "(one, other)",
+        "undone": "(one)",
+        "cycles": "(one)",
+        "from_cycles": "(rows, many)",
+        "order_of_permutation": "(one)",
+        "parity": "(one)",
+        "symmetries": "(count, joined_pairs)",
+        "arrangements": "(rows)",
+    },
+    "expressions": {
+        "parse": "(text)",
+        "strength": "(tree)",
+        "part_text": "(tree, least)",
+        "expression_text": "(tree)",
+        "names_in": "(tree)",
+        "put_for": "(tree, name, other)",
+        "as_quotient": "(tree, name)",
+        "need_small": "(many)",
+        "tree_size": "(tree)",
+        "as_poly": "(tree, name)",
+        "as_terms": "(tree, names)",
+        "poly_tree": "(one, name)",
+        "poly_text": "(one, name)",
+        "quotient_text": "(one, name)",
+    },
+    "solving": {
+        "linear_parts": "(terms)",
+        "solve_linear": "(equations)",
+        "solve_points": "(equations)",
+        "solve_one": "(one)",
+        "quadratic_text": "(one)",
+        "square_text": "(half, rest)",
+        "squares_out": "(number)",
+        "common_points": "(equations, low, high)",
+        "is_zero_at": "(one, point)",
+        "moved_equations": "(equations, point)",
+        "moved_term": "(row, part, point)",
+    },
 }
 
 METHODS = {
@@ -221,6 +266,42 @@ METHODS = {
             "raised_to": "(self, exponent)",
             "slope": "(self)",
             "at": "(self, point)",
+        },
+    },
+    "galois": {
+        "Galois": {
+            "__init__": "(self, prime, one=None, many=1)",
+            "reduced": "(self, one)",
+            "added": "(self, one, other)",
+            "taken": "(self, one, other)",
+            "multiplied": "(self, one, other)",
+            "inverse_of": "(self, one)",
+            "raised_to": "(self, one, exponent)",
+            "order_of": "(self, one)",
+            "element": "(self, number)",
+            "number_of": "(self, one)",
+            "generator": "(self)",
+            "logarithm": "(self, base, one)",
+            "least_poly": "(self, one)",
+        },
+    },
+    "groups": {
+        "Group": {
+            "__init__": "(self, generators, many)",
+            "count_all": "(self)",
+            "has": "(self, one)",
+            "orbit": "(self, place)",
+            "orbits": "(self)",
+            "all_elements": "(self)",
+            "is_commutative": "(self)",
+            "stabilizer": "(self, place)",
+        },
+    },
+    "expressions": {
+        "ExpressionReader": {
+            "__init__": "(self, text)",
+            "here": "(self)",
+            "count": "(self)",
         },
     },
 }
