@@ -90,13 +90,13 @@ class Growth:
         rows = self.used_rows()
         quotients, rest = divided(row[0], [other[0] for other in rows], self.order)
         if not rest.is_zero():
-            self.join(monic_row(rest, factors_left(row[1], quotients, rows), self.order))
+            self.include(monic_row(rest, factors_left(row[1], quotients, rows), self.order))
 
     def used_rows(self):
         """Return the rows that others do not replace."""
         return [self.rows[place] for place in self.used]
 
-    def join(self, row):
+    def include(self, row):
         """Add a row that no other one divides, and its pairs; let it replace those that it divides."""
         place, lead = len(self.rows), row[0].lead(self.order)[0]
         self.rows.append(row)

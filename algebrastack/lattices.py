@@ -1,6 +1,7 @@
 """Lattices: short whole rows that span the same as others, and whole relations between numbers."""
 
 from algebrastack.errors import MatrixError
+from algebrastack.matrices import dot
 from algebrastack.rationals import (
     ZERO,
     compared,
@@ -18,10 +19,7 @@ THREE_QUARTERS = (3, 4)
 
 def inner(one, other):
     """Return the sum of products of two rows of fractions."""
-    found = ZERO
-    for left, right in zip(one, other):
-        found = sum_of(found, product_of(left, right))
-    return found
+    return dot(one, other)
 
 
 def straightened(rows):

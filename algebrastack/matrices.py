@@ -145,7 +145,7 @@ def whole_steps(rows):
     form = WholeForm(checked(rows))
     for top in range(min(len(form.rows), len(form.rows[0]))):
         while form.bring_least(top) and not form.is_done(top):
-            form.clear(top)
+            form.lessen(top)
     form.turn_signs()
     columns = turned_over(form.columns)
     return tuple([tuple(row) for row in form.rows]), tuple([tuple(row) for row in form.left]), columns
@@ -191,7 +191,7 @@ class WholeForm:
         """Return True if a number of the diagonal stands alone and divides all that follow."""
         return self.is_alone(top) and self.undivided(top) is None
 
-    def clear(self, top):
+    def lessen(self, top):
         """Take multiples of a number of the diagonal away from what stands below it and beside it."""
         if self.is_alone(top):
             self.add_row(top, self.undivided(top), 1)

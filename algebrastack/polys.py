@@ -139,22 +139,30 @@ def whole_common(one, other):
 
 
 def whole_rest(one, other):
-    """Return the remainder of a whole polynomial divided by another one, but for a fraction.
+    """Return the remainder of a whole polynomial divided by another one, but for a fraction."""
+    rest = scaled_rest(one, other)
+    common = lead_common(rest)
+    return tuple([number // common for number in rest])
 
-    Fractions on the way would cost far more time than whole numbers without a common divisor do.
+
+def scaled_rest(one, other):
+    """Return the coefficients of the remainder of whole polynomials, times some whole number above 0.
+
+    Fractions on the way would cost far more time than whole numbers do.
     """
     rest = list(one)
     while len(rest) >= len(other):
         common = common_divisor(rest[-1], other[-1])
-        lead, factor = other[-1] // common, rest[-1] // common
+        lead, factor = abs(other[-1]) // common, rest[-1] // common
+        if other[-1] < 0:
+            factor = -factor
         start = len(rest) - len(other)
         rest = [number * lead for number in rest]
         for place, number in enumerate(other):
             rest[start + place] = rest[start + place] - factor * number
         while rest != [] and rest[-1] == 0:
             rest.pop()
-    common = lead_common(rest)
-    return tuple([number // common for number in rest])
+    return rest
 
 
 def lead_common(numbers):

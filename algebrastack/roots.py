@@ -1,13 +1,14 @@
 """Roots: how many real roots a polynomial has and between which fractions each stands."""
 
 from algebrastack.errors import PolyError
-from algebrastack.integers import common_divisor
 from algebrastack.polys import (
     Field,
     degree_of,
+    lead_common,
     poly,
     poly_common,
     poly_divided,
+    scaled_rest,
     slope_of,
     whole_form,
 )
@@ -44,21 +45,8 @@ def signed_whole(one):
 
 def turned_rest(one, other):
     """Return a whole form of the remainder of two whole polynomials, times a fraction below 0."""
-    rest = list(one)
-    while len(rest) >= len(other):
-        common = common_divisor(rest[-1], other[-1])
-        lead, factor = abs(other[-1]) // common, rest[-1] // common
-        if other[-1] < 0:
-            factor = 0 - factor
-        start = len(rest) - len(other)
-        rest = [number * lead for number in rest]
-        for place, number in enumerate(other):
-            rest[start + place] = rest[start + place] - factor * number
-        while rest != [] and rest[-1] == 0:
-            rest.pop()
-    common = 0
-    for number in rest:
-        common = common_divisor(common, number)
+    rest = scaled_rest(one, other)
+    common = abs(lead_common(rest))
     return tuple([0 - number // common for number in rest])
 
 
