@@ -75,8 +75,7 @@ def shortest_rule(row, field):
             else:
                 steps = steps + 1
             rule = better
-    rule = rule + [field.zero] * (length + 1 - len(rule))
-    return tuple([field.minus(field.zero, number) for number in rule[1:length + 1]])
+    return tuple([field.minus(field.zero, number) for number in rule[1:]])
 
 
 def gap_at(row, rule, place, field):

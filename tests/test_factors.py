@@ -310,6 +310,12 @@ class FractionTest(unittest.TestCase):
             self.assertEqual(self.check(fractions(*numbers)), ((1, 1), ((numbers, 1),)))
             self.assertTrue(is_irreducible(fractions(*numbers)))
 
+    def test_the_variable_beside_what_parts_by_every_prime(self):
+        self.assertEqual(factors(fractions(0, 1, 0, 0, 0, 1)), ((1, 1), (((0, 1), 1), ((1, 0, 0, 0, 1), 1))))
+        self.assertEqual(factors(fractions(0, 1, 0, -10, 0, 1)), ((1, 1), (((0, 1), 1), ((1, 0, -10, 0, 1), 1))))
+        one = poly_times(Q, fractions(1, 0, 0, 0, 1), fractions(1, 0, -10, 0, 1))
+        self.assertEqual(factors(one), ((1, 1), (((1, 0, -10, 0, 1), 1), ((1, 0, 0, 0, 1), 1))))
+
     def test_roots_of_unity(self):
         for many, count in ((2, 2), (5, 2), (6, 4), (12, 6), (23, 2), (24, 8)):
             found = self.check(fractions(*((-1,) + (0,) * (many - 1) + (1,))))

@@ -18,6 +18,8 @@ from algebrastack.terms import (
     Terms,
     constant,
     divides,
+    joined,
+    quotient,
     terms_power,
     terms_text,
     variable,
@@ -69,6 +71,27 @@ SOME = (
 )
 
 
+CYCLIC_FOUR = (
+    terms((1, (1, 0, 0, 0)), (1, (0, 1, 0, 0)), (1, (0, 0, 1, 0)), (1, (0, 0, 0, 1))),
+    terms((1, (1, 1, 0, 0)), (1, (0, 1, 1, 0)), (1, (0, 0, 1, 1)), (1, (1, 0, 0, 1))),
+    terms((1, (1, 1, 1, 0)), (1, (0, 1, 1, 1)), (1, (1, 0, 1, 1)), (1, (1, 1, 0, 1))),
+    terms((1, (1, 1, 1, 1)), (-1, (0, 0, 0, 0))),
+)
+SURFACE = (
+    terms((1, (1, 0, 0, 0, 0)), (1, (1, 2, 0, 0, 0)), (-1, (3, 0, 0, 0, 0)), (-1, (0, 0, 1, 0, 0))),
+    terms((1, (0, 1, 0, 0, 0)), (1, (2, 1, 0, 0, 0)), (-1, (0, 3, 0, 0, 0)), (-1, (0, 0, 0, 1, 0))),
+    terms((1, (2, 0, 0, 0, 0)), (-1, (0, 2, 0, 0, 0)), (-1, (0, 0, 0, 0, 1))),
+)
+
+
+def left_of_pair(one, other, order):
+    """Return what is left of two polynomials whose leading terms fall away."""
+    (first, number), (second, factor) = one.lead(order), other.lead(order)
+    both = joined(first, second)
+    left = one.shifted(quotient(both, first), factor)
+    return left.minus(other.shifted(quotient(both, second), number))
+
+
 def powers_of_two(degree):
     """Return all terms of a degree in two variables: none of them divides another one."""
     return [terms((1, (place, degree - place))) for place in range(degree + 1)]
@@ -113,6 +136,16 @@ class BasisTest(unittest.TestCase):
                 self.assertEqual(len(ideal.factors), len(ideal.basis))
                 for one, row in zip(ideal.basis, ideal.factors):
                     self.assertEqual(sum_of(row, generators).shown(), one.shown())
+
+    def test_nothing_is_left_of_pairs(self):
+        for generators in SOME + (CYCLIC_FOUR, SURFACE):
+            for order in ORDERS:
+                ideal = Ideal(generators, order)
+                for one in ideal.basis:
+                    for other in ideal.basis:
+                        self.assertTrue(ideal.has(left_of_pair(one, other, order)))
+        self.assertEqual([len(Ideal(CYCLIC_FOUR, order).basis) for order in ORDERS], [6, 7, 7])
+        self.assertEqual([len(Ideal(SURFACE, order).basis) for order in ORDERS], [8, 7, 6])
 
     def test_generators_are_members(self):
         for generators in SOME:

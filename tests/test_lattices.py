@@ -122,6 +122,8 @@ class ReducedTest(unittest.TestCase):
         # At the very bound, and just above it: 3/4 less the square of 1/2, times the one before.
         self.assertTrue(is_reduced(((4, 0, 0), (2, 2, 2))))
         self.assertFalse(is_reduced(((4, 0, 0), (2, 2, 1))))
+        self.assertTrue(is_reduced(((1, 0, 0), (0, 4, 0), (0, 2, 3))))
+        self.assertFalse(is_reduced(((1, 0, 0), (0, 4, 0), (0, 2, 2), (0, 0, 1))))
         self.assertTrue(is_reduced(((5,),)))
 
     def test_rows_that_hang_on_others(self):

@@ -98,6 +98,8 @@ class PointTest(unittest.TestCase):
     def test_points_ascend_by_their_numbers(self):
         found = solve_points(terms("xy", "(x - 1/2)*(x - 1/3)*(x + 3/4)", "(y - 2)*(y - 10)*(y - 1/5)"))
         told = [tuple([Fraction(*number) for number in point]) for point in found]
+        found = solve_points(terms("x", "(x - 2/13)*(x - 1/7)*(x - 1/11)"))
+        self.assertEqual(found, (((1, 11),), ((1, 7),), ((2, 13),)))
         numbers = (Fraction(-3, 4), Fraction(1, 3), Fraction(1, 2))
         self.assertEqual(told, sorted(product(numbers, (Fraction(1, 5), 2, 10))))
 

@@ -120,6 +120,7 @@ class RuleTest(unittest.TestCase):
         self.assertEqual(shortest_rule((), Q), ())
         self.assertEqual(shortest_rule(whole(0, 0, 0), Q), ())
         self.assertEqual(shortest_rule(whole(5, 0, 0), Q), whole(0))
+        self.assertEqual(shortest_rule(whole(5, 3, 0, 0, 0), Q), whole(0, 0))
         self.assertEqual(len(shortest_rule(whole(0, 0, 0, 1), Q)), 4)
         self.assertEqual(len(shortest_rule(whole(0, 0, 1, 0, 0), Q)), 3)
         row = whole(3, 1, 4, 1, 5, 9, 2, 6)
