@@ -172,5 +172,39 @@ class WordTest(unittest.TestCase):
                     self.assertIn(node.attr, own, (name, node.lineno))
 
 
+class ClassTest(unittest.TestCase):
+    def test_no_name_is_a_method_and_an_attribute(self):
+        methods, attributes = set(), set()
+        for tree in trees().values():
+            for node in ast.walk(tree):
+                if isinstance(node, ast.ClassDef):
+                    methods.update(part.name for part in node.body if isinstance(part, ast.FunctionDef))
+                elif isinstance(node, ast.Attribute) and isinstance(node.ctx, ast.Store):
+                    attributes.add(node.attr)
+        self.assertEqual(methods & attributes, set())
+
+    def test_no_name_of_what_values_have(self):
+        taken = {name for kind in (int, str, bytes, list, tuple, dict, set) for name in dir(kind)}
+        for name, tree in trees().items():
+            for node in ast.walk(tree):
+                if isinstance(node, ast.Attribute) and isinstance(node.ctx, ast.Store):
+                    self.assertNotIn(node.attr, taken, (name, node.lineno))
+                elif isinstance(node, ast.ClassDef):
+                    own = {part.name for part in node.body if isinstance(part, ast.FunctionDef)} - {"__init__"}
+                    self.assertLessEqual(own & taken, VALUE_METHODS, (name, node.name))
+
+    def test_no_loop_changes_what_it_goes_over(self):
+        changing = {"append", "pop", "extend", "insert", "remove", "clear", "update", "setdefault"}
+        for name, tree in trees().items():
+            for loop in ast.walk(tree):
+                if isinstance(loop, ast.For):
+                    parts = [part for part in ast.walk(loop.iter) if isinstance(part, (ast.Name, ast.Attribute))]
+                    over = {ast.unparse(part) for part in parts}
+                    for node in ast.walk(ast.Module(loop.body, [])):
+                        call = node.func if isinstance(node, ast.Call) else None
+                        if isinstance(call, ast.Attribute) and call.attr in changing:
+                            self.assertNotIn(ast.unparse(call.value), over, (name, node.lineno))
+
+
 if __name__ == "__main__":
     unittest.main()
