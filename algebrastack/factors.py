@@ -55,7 +55,13 @@ def split_square_free(field, one):
     # A polynomial that is its own power to the prime is a number by each factor, and so tells factors apart.
     for teller in null_rows(field, power_rows(field, base)):
         parts = [piece for part in parts for piece in told_apart(field, part, teller)]
-    return tuple([part for _, part in sorted([(len(part), part) for part in parts])])
+    return tuple(by_length(parts))
+
+
+def by_length(rows):
+    """Return rows in ascending order, the shorter ones first."""
+    keys = sorted([(len(row), row) for row in rows])
+    return [row for _, row in keys]
 
 
 def power_rows(field, base):
@@ -258,7 +264,7 @@ def split_whole(numbers):
         else:
             found.append(chosen[0])
             left, parts = chosen[1], chosen[2]
-    return [one for _, one in sorted([(len(one), one) for one in found + [left]])]
+    return by_length(found + [left])
 
 
 def prime_of_few(numbers):

@@ -74,8 +74,13 @@ def ascending_points(points):
     for point in points:
         for number in point:
             below = below // common_divisor(below, number[1]) * number[1]
-    rows = [(tuple([number[0] * (below // number[1]) for number in point]), point) for point in points]
-    return tuple([point for _, point in sorted(rows)])
+    rows = sorted([(scaled_point(point, below), point) for point in points])
+    return tuple([point for _, point in rows])
+
+
+def scaled_point(point, below):
+    """Return the numerators of fractions by a common denominator."""
+    return tuple([number[0] * (below // number[1]) for number in point])
 
 
 def solve_one(one):
