@@ -67,7 +67,7 @@ class ExpressionReader:
         if not self.takes(mark):
             raise TextError("a sign is missing")
 
-    def word(self, marks):
+    def run_of(self, marks):
         """Return the signs of some kind that stand together next, "" for none."""
         self.here()
         start = self.place
@@ -125,7 +125,7 @@ class ExpressionReader:
         if not self.takes("^"):
             return found
         below = self.takes("-")
-        digits = self.word(DIGITS)
+        digits = self.run_of(DIGITS)
         if not 1 <= len(digits) <= 2 or int(digits) > MOST_EXPONENT:
             raise TextError("an exponent is no whole number up to 60")
         return "power", found, (0 - int(digits) if below else int(digits))
@@ -136,12 +136,12 @@ class ExpressionReader:
             found = self.read_sum()
             self.need(")")
             return found
-        digits = self.word(DIGITS)
+        digits = self.run_of(DIGITS)
         if digits != "":
             if len(digits) > MOST_DIGITS_READ:
                 raise TextError("a number has more than 30 digits")
             return "number", (int(digits), 1)
-        name = self.word(LETTERS)
+        name = self.run_of(LETTERS)
         if name == "":
             raise TextError("a part is missing")
         return self.read_call(name) if self.takes("(") else ("name", name)

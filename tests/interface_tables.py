@@ -206,6 +206,26 @@ FUNCTIONS = {
         "moved_equations": "(equations, point)",
         "moved_term": "(row, part, point)",
     },
+    "programs": {
+        "solve_program": "(conditions, factors)",
+        "total_of": "(factors, point)",
+        "proves": "(conditions, factors, outcome)",
+    },
+    "proofs": {
+        "is_little_prime": "(number)",
+        "prime_proof": "(number)",
+        "witness": "(prime, factors)",
+        "check_proof": "(number, rows)",
+        "row_holds": "(prime, one, factors, told)",
+    },
+    "squares": {
+        "root_parts": "(number)",
+        "root_convergents": "(number, many)",
+        "least_point": "(number)",
+        "minus_point": "(number)",
+        "points": "(number, many)",
+        "sum_of_two_squares": "(number)",
+    },
 }
 
 METHODS = {
@@ -302,6 +322,29 @@ METHODS = {
             "__init__": "(self, text)",
             "here": "(self)",
             "count": "(self)",
+        },
+    },
+    "programs": {
+        "Outcome": {
+            "__init__": "(self, word, total, point, proof)",
+            "shown": "(self)",
+        },
+        "Tableau": {
+            "__init__": "(self, rows, basis, goal)",
+            "told_point": "(self, many)",
+        },
+    },
+    "curves": {
+        "Curve": {
+            "__init__": "(self, prime, a, b)",
+            "has": "(self, point)",
+            "turned": "(self, point)",
+            "added": "(self, one, other)",
+            "times": "(self, many, point)",
+            "all_points": "(self)",
+            "count_points": "(self)",
+            "order_of_point": "(self, point)",
+            "logarithm": "(self, point, base)",
         },
     },
 }
