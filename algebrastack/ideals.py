@@ -80,33 +80,33 @@ class Growth:
         self.order = order
         self.rows = []
         self.leads = []
-        self.used = []
+        self.standing = []
         self.queue = []
         self.settled = {}
         self.pairs = 0
 
     def put(self, row):
         """Add what is left of a row after division by the others, if it is not 0."""
-        rows = self.used_rows()
+        rows = self.standing_rows()
         quotients, rest = divided(row[0], [other[0] for other in rows], self.order)
         if not rest.is_zero():
             self.include(monic_row(rest, factors_left(row[1], quotients, rows), self.order))
 
-    def used_rows(self):
+    def standing_rows(self):
         """Return the rows that others do not replace."""
-        return [self.rows[place] for place in self.used]
+        return [self.rows[place] for place in self.standing]
 
     def include(self, row):
         """Add a row that no other one divides, and its pairs; let it replace those that it divides."""
         place, lead = len(self.rows), row[0].lead(self.order)[0]
         self.rows.append(row)
         self.leads.append(lead)
-        for other in self.used:
+        for other in self.standing:
             common = joined(self.leads[other], lead)
             heappush(self.queue, (order_key(self.order, common), other, place))
-        self.pairs = self.pairs + len(self.used)
-        self.used = [other for other in self.used if not divides(lead, self.leads[other])] + [place]
-        need_few(self.used)
+        self.pairs = self.pairs + len(self.standing)
+        self.standing = [other for other in self.standing if not divides(lead, self.leads[other])] + [place]
+        need_few(self.standing)
         if self.pairs > MOST_PAIRS:
             raise IdealError("a basis has too many pairs")
 
@@ -157,7 +157,7 @@ def grown_rows(generators, order):
         units = [constant(many, ONE if step == place else ZERO) for step in range(len(generators))]
         growth.put((generators[place], units))
     growth.settle_all()
-    rows = growth.used_rows()
+    rows = growth.standing_rows()
     return [rest_by_others(rows, place, order) for place in range(len(rows))]
 
 

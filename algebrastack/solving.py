@@ -45,13 +45,15 @@ def solve_points(equations):
 
     "Infinitely many" counts all numbers, not only fractions.
     """
-    ideal = Ideal(equations, "lex")
+    ideal = Ideal(equations)
+    # The straight way to "lex" may take very long just where there are infinitely many.
     if not ideal.dimension_zero():
         raise SolveError("there are infinitely many points")
+    basis = Ideal(ideal.basis, "lex").basis if ideal.basis != () else ()
     found = [()]
     # A polynomial of the basis uses no variable ahead of its leading one: the last variable is told first.
     for place in reversed(range(ideal.many)):
-        found = [(number,) + point for point in found for number in numbers_ahead(ideal.basis, place, point)]
+        found = [(number,) + point for point in found for number in numbers_ahead(basis, place, point)]
     fits = [point for point in found if all([one.value_at(point) == ZERO for one in ideal.generators])]
     return ascending_points(fits)
 

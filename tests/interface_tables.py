@@ -4,6 +4,7 @@ VALUES = {
     "rationals": {"ZERO": (0, 1), "ONE": (1, 1)},
     "terms": {"ORDERS": ("lex", "grlex", "grevlex")},
     "expressions": {"SIGNS": {"+": "sum", "-": "difference", "*": "product", "/": "quotient"}},
+    "decisions": {"NO": 0, "YES": 1},
 }
 
 FUNCTIONS = {
@@ -226,6 +227,26 @@ FUNCTIONS = {
         "points": "(number, many)",
         "sum_of_two_squares": "(number)",
     },
+    "clauses": {
+        "clause_of": "(numbers)",
+        "joined_clauses": "(one, other, name)",
+        "holds_by": "(clause, names)",
+        "check_steps": "(clauses, steps)",
+    },
+    "machines": {
+        "parse_pattern": "(text)",
+        "has_empty": "(pattern)",
+        "behind": "(pattern, sign)",
+        "machine_of": "(pattern, signs)",
+        "signs_in": "(pattern)",
+        "difference_word": "(one, other)",
+    },
+    "flows": {
+        "greatest_flow": "(many, ways, first, last)",
+        "proves_flow": "(many, ways, first, last, flow)",
+        "pairs_of": "(left, right, fits)",
+        "chains_of": "(many, below)",
+    },
 }
 
 METHODS = {
@@ -347,4 +368,75 @@ METHODS = {
             "logarithm": "(self, point, base)",
         },
     },
+    "decisions": {
+        "Diagrams": {
+            "__init__": "(self, names)",
+            "place_of": "(self, node)",
+            "name": "(self, name)",
+            "chosen": "(self, one, two, three)",
+            "both": "(self, one, other)",
+            "either": "(self, one, other)",
+            "opposite": "(self, one)",
+            "value": "(self, node, truths)",
+            "count": "(self, node)",
+            "first_truths": "(self, node)",
+            "with_name": "(self, node, name, truth)",
+            "some": "(self, node, name)",
+            "used": "(self, node)",
+        },
+    },
+    "clauses": {
+        "Solver": {
+            "__init__": "(self, clauses)",
+            "solve": "(self)",
+        },
+    },
+    "machines": {
+        "Machine": {
+            "__init__": "(self, signs, rows, ends)",
+            "shown": "(self)",
+            "takes": "(self, word)",
+            "turned": "(self)",
+            "smallest": "(self)",
+            "reached": "(self)",
+            "both": "(self, other, word)",
+            "shortest": "(self)",
+            "count_words": "(self, length)",
+        },
+    },
+    "flows": {
+        "Flow": {
+            "__init__": "(self, amounts, total, side)",
+            "shown": "(self)",
+        },
+    },
+    "session": {
+        "Session": {
+            "__init__": "(self)",
+            "enter": "(self, line)",
+        },
+    },
+}
+
+# For each class: arguments to make an object, and the fields that are read from outside, with their kinds.
+FIELDS = {
+    "polys": {"Field": ((7,), {"prime": int, "zero": int, "one": int})},
+    "roots": {
+        "Root": ((((-2, 1), (0, 1), (1, 1)), (1, 1), (2, 1)), {"poly": tuple, "low": tuple, "high": tuple, "rows": tuple}),
+    },
+    "terms": {"Terms": ((1, (((1,), (1, 1)),)), {"many": int, "rows": dict})},
+    "fractions": {"Quotient": ((((1, 1),), ((0, 1), (1, 1))), {"above": tuple, "below": tuple})},
+    "galois": {"Galois": ((3, None, 2), {"field": object, "prime": int, "base": tuple, "size": int})},
+    "groups": {"Group": ((((1, 0),), 2), {"many": int, "generators": tuple, "stay": tuple})},
+    "programs": {
+        "Outcome": (
+            ("greatest", (1, 1), ((1, 1),), ((1, 1),)), {"word": str, "total": tuple, "point": tuple, "proof": tuple},
+        ),
+        "Tableau": (([[(1, 1), (2, 1)]], [0], [(0, 1), (0, 1)]), {"rows": list, "basis": list}),
+    },
+    "curves": {"Curve": ((7, 1, 1), {"prime": int, "a": int, "b": int})},
+    "decisions": {"Diagrams": ((("a", "b"),), {"names": tuple, "nodes": list})},
+    "machines": {"Machine": ((("a",), ((0,),), (True,)), {"signs": tuple, "rows": tuple, "ends": tuple})},
+    "flows": {"Flow": (((1,), 1, (0,)), {"amounts": tuple, "total": int, "side": tuple})},
+    "session": {"Session": ((), {"known": dict})},
 }

@@ -211,12 +211,12 @@ class BasisTest(unittest.TestCase):
         growth = Growth("lex")
         for place in range(51):
             growth.put((terms((1, (2 * place, 100 - 2 * place))), []))
-        self.assertEqual((len(growth.used), growth.pairs), (51, 1275))
+        self.assertEqual((len(growth.standing), growth.pairs), (51, 1275))
         with self.assertRaises(IdealError):
             for place in range(40):
                 # Each of these takes the place of an earlier one, so that the rows are as many as before.
                 growth.put((terms((1, (2 * place, 99 - 2 * place))), []))
-                self.assertEqual(len(growth.used), 51)
+                self.assertEqual(len(growth.standing), 51)
 
     def test_rows(self):
         row = (X.plus(Y), [ONE, X])

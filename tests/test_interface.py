@@ -4,7 +4,9 @@ import inspect
 import unittest
 from importlib import import_module
 
-from interface_tables import FUNCTIONS, METHODS, VALUES
+from algebrastack.ideals import Ideal
+from algebrastack.terms import variable
+from interface_tables import FIELDS, FUNCTIONS, METHODS, VALUES
 
 ERRORS = ("AlgebraError", "NumberError", "PolyError", "MatrixError", "IdealError", "TextError", "SolveError")
 
@@ -16,6 +18,7 @@ class InterfaceTest(unittest.TestCase):
             error = getattr(module, name)
             self.assertEqual(error.__module__, "algebrastack.errors")
             self.assertTrue(issubclass(error, ValueError))
+            self.assertTrue(issubclass(error, module.AlgebraError))
 
     def test_values(self):
         for place, table in VALUES.items():
@@ -42,6 +45,29 @@ class InterfaceTest(unittest.TestCase):
                 for method, arguments in table.items():
                     with self.subTest(place=place, name=name, method=method):
                         self.assertEqual(str(inspect.signature(vars(found)[method])), arguments)
+
+    def test_fields(self):
+        for place, classes in FIELDS.items():
+            module = import_module("algebrastack." + place)
+            for name, (arguments, fields) in classes.items():
+                found = getattr(module, name)(*arguments)
+                for field, kind in fields.items():
+                    with self.subTest(place=place, name=name, field=field):
+                        self.assertIsInstance(vars(found)[field], kind)
+
+    def test_fields_of_ideals(self):
+        ideal = Ideal([variable(2, 0)])
+        self.assertEqual((ideal.order, ideal.many), ("grevlex", 2))
+        for field in (ideal.generators, ideal.basis, ideal.factors):
+            self.assertIsInstance(field, tuple)
+
+    def test_the_tables_name_all_that_the_document_does(self):
+        """Each file of the interface stands in the tables, and each class in its file has fields or methods there."""
+        for place in (
+            "integers rationals polys factors roots terms ideals matrices fractions series sums lattices galois groups "
+            "expressions solving programs proofs squares curves decisions clauses machines flows session"
+        ).split():
+            self.assertTrue(place in FUNCTIONS or place in METHODS, place)
 
 
 if __name__ == "__main__":
