@@ -1,7 +1,9 @@
 import unittest
 from itertools import permutations
 from math import factorial
+from unittest.mock import patch
 
+from algebrastack import groups
 from algebrastack.errors import MatrixError, SolveError
 from algebrastack.groups import (
     Group,
@@ -138,6 +140,66 @@ class GroupTest(unittest.TestCase):
         for group in (whole, even, mathieu):
             with self.assertRaises(SolveError):
                 group.all_elements()
+
+    def test_groups_of_ten_and_twelve_places(self):
+        rest = tuple(range(5, 12))
+        turn, exchange = tuple(range(1, 12)) + (0,), (1, 0) + tuple(range(2, 12))
+        for generators, many, size, members, others in (
+            ((turn, exchange), 12, 479001600, ((11, 10, 9, 8, 7, 6, 5, 4, 3, 2, 1, 0), (2, 1, 0) + tuple(range(3, 12))), ()),
+            ((turn[:9] + (0,), exchange[:10]), 10, 3628800, ((9, 8, 7, 6, 5, 4, 3, 2, 1, 0), exchange[:10]), (exchange,)),
+            ((turn,), 12, 12, ((3, 4, 5, 6, 7, 8, 9, 10, 11, 0, 1, 2),), (exchange, (2, 1) + turn[2:])),
+            (
+                ((1, 2, 0) + tuple(range(3, 12)), (0,) + tuple(range(2, 12)) + (1,)), 12, 239500800,
+                ((1, 0, 3, 2) + tuple(range(4, 12)), (0, 1, 2, 3, 4, 5, 6, 7, 8, 10, 11, 9)),
+                (exchange, turn, (1, 0, 3, 2, 5, 4) + tuple(range(6, 12))),
+            ),
+            (
+                (exchange, (1, 2, 3, 4, 0) + rest, (0, 1, 2, 3, 4, 6, 5) + rest[2:], (0, 1, 2, 3, 4) + rest[1:] + rest[:1]),
+                12, 604800, (exchange, (4, 3, 2, 1, 0) + rest[::-1]), (turn, (5, 1, 2, 3, 4, 0) + rest[1:]),
+            ),
+        ):
+            group = Group(generators, many)
+            self.assertEqual(group.count_all(), size)
+            self.assertEqual(len(group.stay), many)
+            for one in members + generators:
+                self.assertTrue(group.has(one))
+                self.assertTrue(group.has(undone(one)))
+                self.assertTrue(group.has(after(one, generators[0])))
+            for one in others:
+                self.assertFalse(group.has(one))
+            for place, table in enumerate(group.stay):
+                for aim, one in table.items():
+                    self.assertEqual((one[:place], one[place]), (tuple(range(place)), aim))
+
+    def test_few_products_make_a_group(self):
+        turn, exchange = tuple(range(1, 12)) + (0,), (1, 0) + tuple(range(2, 12))
+        wreath = ([(0, 1)], [(0, 1, 2)], [(0, 3), (1, 4), (2, 5)], [(0, 3, 6, 9), (1, 4, 7, 10), (2, 5, 8, 11)])
+        for generators, size, most in (
+            ((turn, exchange), 479001600, 1000),
+            ((turn,), 12, 40),
+            ([from_cycles(row, 12) for row in wreath], 31104, 1000),
+        ):
+            many = []
+
+            def counted(one, other):
+                many.append(True)
+                return after(one, other)
+
+            with patch.object(groups, "after", counted):
+                self.assertEqual(Group(generators, 12).count_all(), size)
+            self.assertLess(len(many), most)
+
+    def test_groups_of_blocks(self):
+        # Those that take blocks of places to blocks: the blocks' own groups, and that of how they are exchanged.
+        for size, many in ((2, 6), (3, 4), (4, 3), (6, 2)):
+            places = size * many
+            rows = [[(0, 1)], [tuple(range(size))], [(place, place + size) for place in range(size)]]
+            rows.append([tuple(range(place, places, size)) for place in range(size)])
+            group = Group([from_cycles(row, places) for row in rows], places)
+            self.assertEqual(group.count_all(), factorial(size) ** many * factorial(many))
+            self.assertEqual(group.orbits(), (tuple(range(places)),))
+            self.assertEqual(group.stabilizer(1).count_all() * places, group.count_all())
+            self.assertFalse(group.has((0, size) + tuple(range(2, size)) + (1,) + tuple(range(size + 1, places))))
 
     def test_5000_elements(self):
         self.assertEqual(len(Group([(1, 2, 3, 4, 5, 0), (1, 0, 2, 3, 4, 5)], 6).all_elements()), 720)
