@@ -82,7 +82,8 @@ class PatternTest(unittest.TestCase):
         self.assertEqual(signs_in(parse_pattern("a" * 99 + "b")), ["a", "b"])
         self.assertEqual(parse_pattern("(" * 20 + "a" + ")" * 20), A)
         self.assertEqual(parse_pattern("(" * 20 + "a" + ")" * 20 + "(b)"), ("row", A, B))
-        for text in ("a" * 101, "(" * 21 + "a" + ")" * 21):
+        self.assertEqual(parse_pattern("()" * 20 + "(" * 20 + "a" + ")" * 20)[2], A)
+        for text in ("a" * 101, "(" * 21 + "a" + ")" * 21, "()" * 20 + "(" * 21 + "a" + ")" * 21):
             with self.assertRaises(TextError):
                 parse_pattern(text)
 

@@ -3,7 +3,7 @@ from itertools import combinations, product
 
 from algebrastack.errors import MatrixError
 from algebrastack.matrices import solution
-from algebrastack.programs import Outcome, Tableau, proves, solve_program, total_of
+from algebrastack.programs import Outcome, Tableau, begun, proves, solve_program, total_of
 from algebrastack.rationals import ONE, ZERO, compared, rational, sum_of
 
 
@@ -200,6 +200,14 @@ class TableauTest(unittest.TestCase):
         self.assertEqual(tableau.told_point(4), ((7, 2), ZERO, ZERO, (1, 3)))
         self.assertEqual(tableau.told_point(2), ((7, 2), ZERO))
         self.assertEqual(tableau.told_point(0), ())
+
+    def test_helpers_are_for_bounds_below_0(self):
+        tableau = begun(whole([((2, 5), 3), ((1, 0), -4), ((0, 1), 0)]), 2)
+        self.assertEqual(tableau.basis, [2, 5, 4])
+        self.assertEqual(tableau.rows, [
+            list(fractions(row)) for row in ((2, 5, 1, 0, 0, 0, 3), (-1, 0, 0, -1, 0, 1, 4), (0, 1, 0, 0, 1, 0, 0))
+        ])
+        self.assertEqual(tableau.told_point(6), fractions((0, 0, 3, 0, 0, 4)))
 
     def test_no_rows(self):
         self.assertEqual(Tableau([], [], [ONE, ZERO]).told_point(1), (ZERO,))
