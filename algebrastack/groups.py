@@ -256,7 +256,7 @@ def symmetries(count, joined_pairs):
         pairs[one, other] = True
         pairs[other, one] = True
     found, orbit_of = [], list(range(count))
-    # Those that leave all places up to one are found first: then one for each new aim of the place makes all the others.
+    # Those that leave all places up to one come first: then one for each new aim of the place makes all the others.
     for place in reversed(range(count)):
         for aim in range(place + 1, count):
             one = None if orbit_of[aim] == orbit_of[place] else first_keeping(identity(place) + (aim,), count, pairs)
