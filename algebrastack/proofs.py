@@ -77,9 +77,10 @@ def row_holds(prime, one, factors, told):
 
 
 def parts_all(number, factors, told):
-    """Return True if ascending factors, each a little prime or with a row, are just those that divide a number."""
+    """Return True if factors, each told once and a little prime or with a row, are just those that divide a number."""
     left, last = number, 1
-    for factor in factors:
+    # A row holds in whatever order its factors are told; ascending, one that is told twice follows itself.
+    for factor in sorted(factors):
         if factor <= last or left < 1 or left % factor != 0:
             return False
         if not is_little_prime(factor) and factor not in told:

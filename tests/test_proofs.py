@@ -1,4 +1,5 @@
 import unittest
+from itertools import permutations
 
 from algebrastack.errors import NumberError
 from algebrastack.integers import prime_factors
@@ -137,7 +138,10 @@ class CheckTest(unittest.TestCase):
             (1009, 11, (4, 3, 7)),
             (1009, 11, (6, 7)),
             (1009, 11, (2, 2, 3, 7)),
-            (1009, 11, (7, 3, 2)),
+            (1009, 11, (2, 3, 7, 2)),
+            (1009, 11, (7, 2)),
+            (1009, 11, (7, 5, 3, 2)),
+            (1009, 11, (7, 3, 2, 1)),
             (1009, 11, (1, 2, 3, 7)),
             (1009, 11, (0, 2, 3, 7)),
             (1009, 11, (1008,)),
@@ -147,6 +151,25 @@ class CheckTest(unittest.TestCase):
         ):
             self.assert_no_proof(1009, (bent,))
         self.assert_no_proof(1105, ((1105, 2, (2, 3, 23)),))
+
+    def test_factors_in_any_order(self):
+        for factors in permutations((2, 3, 7)):
+            self.assertIs(row_holds(1009, 11, factors, {}), True, factors)
+            self.assertIsNone(check_proof(1009, ((1009, 11, factors),)))
+        for prime in PRIMES:
+            rows = tuple([(own, one, factors[::-1]) for own, one, factors in prime_proof(prime)])
+            self.assertIsNone(check_proof(prime, rows))
+
+    def test_wrong_factors_in_any_order(self):
+        for wrong in ((2, 2, 3, 7), (2, 3, 7, 7), (2, 3), (3, 7), (2, 3, 5, 7), (1, 2, 3, 7), (4, 3, 7), (6, 7)):
+            for factors in permutations(wrong):
+                self.assertIs(row_holds(1009, 11, factors, {}), False, factors)
+                self.assert_no_proof(1009, ((1009, 11, factors),))
+        for factors in permutations((2, 62423)):
+            self.assert_no_proof(124847, ((124847, 5, factors),))
+        # What a table tells besides primes is weighed alike in each order.
+        for factors in permutations((2, 4)):
+            self.assertIs(row_holds(17, 3, factors, {4: True}), False, factors)
 
     def test_factors_without_a_row(self):
         self.assertIsNone(check_proof(124847, ROWS[2:]))
